@@ -1,0 +1,1 @@
+"""Transactions with semantic operations, right at every cut."""
