@@ -24,3 +24,10 @@ def is_plain_word(thing):
 def is_ascending(things):
     """Whether things that can be compared are sorted, none of them twice."""
     return all([one < other for one, other in zip(things, things[1:])])
+
+
+def is_permutation(thing, size):
+    """Whether any value is a tuple with each integer from 0 to size - 1 exactly once."""
+    if not isinstance(thing, tuple) or not all([is_integer(part) for part in thing]):
+        return False
+    return sorted(thing) == list(range(size))

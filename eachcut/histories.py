@@ -6,11 +6,16 @@ from eachcut.tables import check_table
 
 
 class Record:
-    """What the events of a history have done so far."""
+    """What the events of a history have done so far.
+
+    owners has the transaction of each step, steps the positions of each transaction's steps, ends what
+    ended it ("keep" or "drop"), and taken the position of the "back" of each step that is taken back.
+    """
 
     def __init__(self, kinds):
         self.kinds = kinds
         self.length = 0
+        self.owners = {}
         self.steps = {}
         self.ends = {}
         self.taken = {}
@@ -37,15 +42,16 @@ class Record:
         """Whether i is the position of a step of t that can be taken back now."""
         if not is_integer(i) or self.ends.get(t) != "drop":
             return False
-        return i in self.steps[t] and i not in self.taken
+        return i in self.owners and self.owners[i] == t and i not in self.taken
 
     def note(self, event):
         """Adds an event that is possible now."""
         word, t = event[0], event[1]
         if word == "do":
+            self.owners[self.length] = t
             self.steps.setdefault(t, []).append(self.length)
         elif word == "back":
-            self.taken[event[2]] = True
+            self.taken[event[2]] = self.length
         else:
             self.ends[t] = word
         self.length += 1
@@ -110,26 +116,35 @@ def state_of(table, history, t):
     return record.state(t)
 
 
+def kept_in(record):
+    """The transactions that are kept now, in the order of their keep events."""
+    return tuple([t for t, end in record.ends.items() if end == "keep"])
+
+
 def kept_at(table, history, p):
     """The transactions that are kept within a cut, in the order of their keep events."""
-    record = record_at(table, history, p)
-    return tuple([t for t, end in record.ends.items() if end == "keep"])
+    return kept_in(record_at(table, history, p))
+
+
+def open_in(record):
+    """The steps that a restart takes back now, from the last to the first."""
+    left = [i for i, t in record.owners.items() if i not in record.taken and record.ends.get(t) != "keep"]
+    return tuple(sorted(left, reverse=True))
 
 
 def open_at(table, history, p):
     """The steps that the restart after a cut takes back, from the last to the first."""
-    record = record_at(table, history, p)
-    left = []
-    for t, steps in record.steps.items():
-        if record.state(t) != "kept":
-            left.extend([i for i in steps if i not in record.taken])
-    return tuple(sorted(left, reverse=True))
+    return open_in(record_at(table, history, p))
+
+
+def word_in(record, events):
+    """The word of some events, of which this is the record, and of a restart after them."""
+    return tuple(letters_of(events) + [(i, -1) for i in open_in(record)])
 
 
 def word_at(table, history, p):
     """The word at a cut: its steps and backs, and then the restart."""
-    letters = [(i, -1) for i in open_at(table, history, p)]
-    return tuple(letters_of(history[:p]) + letters)
+    return word_in(record_at(table, history, p), history[:p])
 
 
 def letters_of(events):
@@ -152,9 +167,14 @@ def is_order(record, thing):
     return len(set(thing)) == len(thing)
 
 
+def serial_in(record, order):
+    """The word of all steps of some transactions that have steps, one transaction after another."""
+    return tuple([(i, 1) for t in order for i in record.steps[t]])
+
+
 def serial_word(table, history, order):
     """The word of all steps of some transactions, one transaction after another."""
     record = checked_record(table, history)
     if not is_order(record, order):
         raise BadOrder(order)
-    return tuple([(i, 1) for t in order for i in record.steps[t]])
+    return serial_in(record, order)

@@ -1,13 +1,22 @@
 """What the tests share: the interface, odd values, wrong variants of values, and the examples' runner."""
 
 import importlib
+import random
 import re
+from itertools import permutations
 
 from eachcut import errors
 from eachcut.errors import BadTable, CutError
 
 CELLS = (("add", "get", "set"), (("add", "get"), ("add", "set"), ("get", "set"), ("set", "set")))
 ADDS = (("do", 1, "add"), ("do", 2, "add"), ("drop", 1), ("back", 1, 0), ("keep", 2))
+SMALL = (("a", "b"), (("a", "b"),))
+MANY = tuple(sorted([one + other for one in "abcdef" for other in "uvwxyz"]))
+# All tables with the kinds a and b, except those in which the two have changed places.
+TABLES = (
+    (("a", "b"), ()), SMALL, (("a", "b"), (("b", "b"),)), (("a", "b"), (("a", "a"), ("b", "b"))),
+    (("a", "b"), (("a", "b"), ("b", "b"))), (("a", "b"), (("a", "a"), ("a", "b"), ("b", "b"))),
+)
 
 INTERFACE = {
     "eachcut.tables": {
@@ -27,6 +36,39 @@ INTERFACE = {
         "open_at": ("table", "history", "p"),
         "word_at": ("table", "history", "p"),
         "serial_word": ("table", "history", "order"),
+    },
+    "eachcut.words": {
+        "is_word": ("table", "history", "thing"),
+        "is_rewriting": ("table", "history", "word", "thing"),
+        "rewritten": ("table", "history", "word", "steps"),
+        "normal": ("table", "history", "word"),
+        "is_same": ("table", "history", "word", "other"),
+        "steps_to_normal": ("table", "history", "word"),
+    },
+    "eachcut.judge": {
+        "judge_cut": ("table", "history", "p"),
+        "cut_holds": ("table", "history", "p", "thing"),
+        "is_right_at": ("table", "history", "p"),
+        "judge_history": ("table", "history"),
+        "history_holds": ("table", "history", "thing"),
+        "is_right": ("table", "history"),
+    },
+    "eachcut.tokens": {
+        "is_store": ("table", "history", "thing"),
+        "result": ("table", "history", "store", "word"),
+        "store_against": ("table", "history", "p"),
+        "does_show": ("table", "history", "p", "thing"),
+    },
+    "eachcut.scheduler": {
+        "may_happen": ("table", "history", "thing"),
+        "allowed": ("table", "history"),
+        "waits_for": ("table", "history"),
+        "doomed": ("table", "history"),
+        "judge_transaction": ("table", "history", "u"),
+        "transaction_holds": ("table", "history", "u", "thing"),
+        "finish": ("table", "history"),
+        "is_finish": ("table", "history", "thing"),
+        "next_steps": ("table", "history"),
     },
 }
 
@@ -53,6 +95,394 @@ def is_table_by_words(thing):
     pairs = {(one, other) for one in kinds for other in kinds if one <= other}
     sorted_once = sorted(set(kinds)) == list(kinds) and sorted(set(conflicts)) == list(conflicts)
     return sorted_once and set(conflicts) <= pairs
+
+
+def is_possible_by_words(kinds, before, event):
+    """The definition once more, by looking through all preceding events."""
+    if type(event) is not tuple or len(event) < 2 or type(event[0]) is not str:
+        return False
+    word, t = event[:2]
+    if type(t) is not int or t < 0:
+        return False
+    ended = ("keep", t) in before or ("drop", t) in before
+    steps = [i for i, other in enumerate(before) if other[:2] == ("do", t)]
+    if len(event) == 2:
+        return word in ("keep", "drop") and steps != [] and not ended
+    if len(event) == 3 and word == "do":
+        return type(event[2]) is str and event[2] in kinds and not ended
+    if len(event) == 3 and word == "back" and type(event[2]) is int:
+        return ("drop", t) in before and event[2] in steps and event not in before
+    return False
+
+
+def is_history_by_words(kinds, thing):
+    if type(thing) is not tuple:
+        return False
+    return all(is_possible_by_words(kinds, thing[:at], event) for at, event in enumerate(thing))
+
+
+def state_by_words(history, t):
+    steps = [i for i, event in enumerate(history) if event[:2] == ("do", t)]
+    if not steps:
+        return "new"
+    if ("keep", t) in history:
+        return "kept"
+    if ("drop", t) not in history:
+        return "active"
+    return "gone" if all(("back", t, i) in history for i in steps) else "dropping"
+
+
+def open_by_words(cut):
+    steps = [(i, event[1]) for i, event in enumerate(cut) if event[0] == "do"]
+    return tuple([i for i, t in reversed(steps) if ("keep", t) not in cut and ("back", t, i) not in cut])
+
+
+def word_by_words(cut):
+    letters = [(i, 1) if event[0] == "do" else (event[2], -1) for i, event in enumerate(cut) if len(event) == 3]
+    return tuple(letters) + tuple([(i, -1) for i in open_by_words(cut)])
+
+
+def candidates(many):
+    """Events, possible or not, for two transactions and two kinds."""
+    found = [("do", t, kind) for t in (0, 1) for kind in ("a", "b")]
+    found += [(word, t) for word in ("keep", "drop") for t in (0, 1)]
+    return found + [("back", t, i) for t in (0, 1) for i in range(many)]
+
+
+def all_histories(most):
+    found = [()]
+    for history in found:
+        if len(history) < most:
+            for event in candidates(len(history)):
+                if is_possible_by_words(SMALL[0], history, event):
+                    found.append(history + (event,))
+    return found
+
+
+def long_history(seed, most=200, transactions=80, kinds=MANY):
+    """A history with many events, drawn from the possible ones."""
+    chance = random.Random(seed)
+    history = [("do", t, chance.choice(kinds)) for t in range(transactions)]
+    chance.shuffle(history)
+    while len(history) < most:
+        t = chance.randrange(transactions)
+        steps = [i for i, event in enumerate(history) if event[:2] == ("do", t)]
+        event = chance.choice((
+            ("do", t, chance.choice(kinds)), ("keep", t), ("drop", t), ("back", t, chance.choice(steps)),
+            ("back", t, chance.choice(steps)),
+        ))
+        if is_possible_by_words(kinds, tuple(history), event):
+            history.append(event)
+    return tuple(history)
+
+
+def conflict_by_words(table, history, i, j):
+    """Whether two steps, not the same one, conflict."""
+    (_, t, one), (_, u, other) = history[i], history[j]
+    return t == u or tuple(sorted((one, other))) in table[1]
+
+
+def steps_within(history):
+    return [i for i, event in enumerate(history) if event[0] == "do"]
+
+
+def is_word_by_words(history, thing):
+    if type(thing) is not tuple or any(type(letter) is not tuple for letter in thing):
+        return False
+    if any([type(part) for part in letter] != [int, int] for letter in thing):
+        return False
+    return all(letter in [(i, sign) for i in steps_within(history) for sign in (1, -1)] for letter in thing)
+
+
+def once_rewritten(table, history, word, thing):
+    """The word after a rewriting, None for any value that is none."""
+    if type(thing) is not tuple or [type(part) for part in thing] != [str, int]:
+        return None
+    name, k = thing
+    if not 0 <= k <= len(word) - 2:
+        return None
+    (i, sign), (j, other) = word[k:k + 2]
+    if name == "swap" and i != j and not conflict_by_words(table, history, i, j):
+        return word[:k] + ((j, other), (i, sign)) + word[k + 2:]
+    if name == "strike" and i == j and sign + other == 0:
+        return word[:k] + word[k + 2:]
+    return None
+
+
+def often_rewritten(table, history, word, thing):
+    """The word after rewritings, None for any value that is no tuple of such."""
+    if type(thing) is not tuple:
+        return None
+    for step in thing:
+        word = once_rewritten(table, history, word, step)
+        if word is None:
+            return None
+    return word
+
+
+def all_reached(table, history, word):
+    """All words to which rewritings lead."""
+    found, queue = {word}, [word]
+    for reached in queue:
+        for step in [(name, k) for name in ("swap", "strike") for k in range(len(reached))]:
+            after = once_rewritten(table, history, reached, step)
+            if after is not None and after not in found:
+                found.add(after)
+                queue.append(after)
+    return found
+
+
+def normal_by_search(table, history, word):
+    """The smallest one of the shortest words to which rewritings lead."""
+    return min(all_reached(table, history, word), key=lambda reached: (len(reached), reached))
+
+
+def struck(table, history, word):
+    """A reduced word that is the same: inverse letters go wherever nothing between them is in their way."""
+    for low, (i, sign) in enumerate(word):
+        for high in range(low + 1, len(word)):
+            j, other = word[high]
+            if i == j and sign != other:
+                return struck(table, history, word[:low] + word[low + 1:high] + word[high + 1:])
+            if i == j or conflict_by_words(table, history, i, j):
+                break
+    return word
+
+
+def shadows(table, history, word):
+    """What swaps leave as it is: for each two positions that cannot be exchanged, the letters with them."""
+    steps = sorted({i for i, _ in word})
+    pairs = [(i, j) for i in steps for j in steps if i == j or i < j and conflict_by_words(table, history, i, j)]
+    return [(pair, [letter for letter in word if letter[0] in pair]) for pair in pairs]
+
+
+def is_same_by_words(table, history, word, other):
+    one, two = struck(table, history, word), struck(table, history, other)
+    return shadows(table, history, one) == shadows(table, history, two)
+
+
+def kept_by_words(cut):
+    return tuple([event[1] for event in cut if event[0] == "keep"])
+
+
+def serial_by_words(history, order):
+    return tuple([(i, 1) for t in order for i in steps_within(history) if history[i][1] == t])
+
+
+def is_right_at_by_words(table, history, p):
+    """By the definition: whether the word is the same as the serial word in some order."""
+    cut = history[:p]
+    orders = permutations(kept_by_words(cut))
+    return any(is_same_by_words(table, cut, word_by_words(cut), serial_by_words(cut, order)) for order in orders)
+
+
+def first_wrong_by_words(table, history):
+    """The smallest cut at which one of the conditions (a) and (b) is broken, None without one."""
+    place = {event: at for at, event in enumerate(history) if event[0] != "do"}
+    wrong, never = [], len(history) + 1
+    steps = steps_within(history)
+    for i, j in [(i, j) for i in steps for j in steps if i < j and conflict_by_words(table, history, i, j)]:
+        t, u = history[i][1], history[j][1]
+        back, later = place.get(("back", t, i), never), place.get(("back", u, j), never)
+        if back < j:
+            continue
+        if t != u and ("keep", u) in place and place[("keep", u)] < place.get(("keep", t), never):
+            wrong.append(place[("keep", u)] + 1)
+        if back < min(later, never):
+            wrong.append(back + 1)
+    return min(wrong) if wrong else None
+
+
+def is_caught_by_words(table, cut, i, j):
+    """Whether two integers are steps of a certificate "caught"."""
+    steps = steps_within(cut)
+    if i not in steps or j not in steps or i >= j or not conflict_by_words(table, cut, i, j):
+        return False
+    word = word_by_words(cut)
+    if (i, -1) not in word or word.index((i, -1)) < word.index((j, 1)):
+        return False
+    return (j, -1) not in word[word.index((j, 1)):word.index((i, -1))]
+
+
+def is_edge_by_words(table, cut, t, u):
+    """Whether a step of t conflicts with a later one of u."""
+    steps = steps_within(cut)
+    pairs = [(i, j) for i in steps for j in steps if i < j and (cut[i][1], cut[j][1]) == (t, u)]
+    return any(conflict_by_words(table, cut, i, j) for i, j in pairs)
+
+
+def are_integers(thing):
+    return type(thing) is tuple and all(type(part) is int for part in thing)
+
+
+def certifies_by_words(table, history, p, thing):
+    """Whether any value is a certificate for a cut."""
+    cut = history[:p]
+    kept = kept_by_words(cut)
+    if type(thing) is not tuple or thing == () or type(thing[0]) is not str:
+        return False
+    if thing[0] == "steps" and len(thing) == 3:
+        if not are_integers(thing[1]) or sorted(thing[1]) != sorted(kept):
+            return False
+        return often_rewritten(table, cut, word_by_words(cut), thing[2]) == serial_by_words(cut, thing[1])
+    if thing[0] == "caught" and len(thing) == 3:
+        return are_integers(thing[1:]) and is_caught_by_words(table, cut, *thing[1:])
+    if thing[0] != "ring" or len(thing) != 2 or not are_integers(thing[1]) or len(thing[1]) < 2:
+        return False
+    ring = thing[1]
+    if len(set(ring)) < len(ring) or not set(ring) <= set(kept):
+        return False
+    return all(is_edge_by_words(table, cut, ring[at - 1], ring[at]) for at in range(len(ring)))
+
+
+def history_certifies_by_words(table, history, thing):
+    """Whether any value is a certificate for a history."""
+    wrong = first_wrong_by_words(table, history)
+    if type(thing) is not tuple or thing == () or type(thing[0]) is not str:
+        return False
+    if thing[0] == "right":
+        return len(thing) == 1 and wrong is None
+    if thing[0] != "wrong" or len(thing) != 3 or type(thing[1]) is not int or thing[1] != wrong:
+        return False
+    return certifies_by_words(table, history, wrong, thing[2]) and thing[2][0] == "caught"
+
+
+def is_permutation_by_words(thing, many):
+    return are_integers(thing) and len(thing) == many and set(thing) == set(range(many))
+
+
+def is_store_by_words(table, history, thing):
+    if type(thing) is not tuple or [type(part) for part in thing] != [int, tuple]:
+        return False
+    many, moves = thing
+    if many not in range(1, 31) or len(moves) != len(history):
+        return False
+    if not all(is_permutation_by_words(move, many) for move in moves):
+        return False
+    steps = steps_within(history)
+    if any(moves[at] != tuple(range(many)) for at in range(len(history)) if at not in steps):
+        return False
+    free = [(i, j) for i in steps for j in steps if i != j and not conflict_by_words(table, history, i, j)]
+    return all(moves[i][moves[j][k]] == moves[j][moves[i][k]] for i, j in free for k in range(many))
+
+
+def result_by_words(store, word):
+    """The result, found by following each token."""
+    many, moves = store
+    places = list(range(many))
+    for i, sign in word:
+        places = [moves[i][place] if sign == 1 else moves[i].index(place) for place in places]
+    return tuple([places.index(place) for place in range(many)])
+
+
+def shows_by_words(table, history, p, thing):
+    if not is_store_by_words(table, history, thing):
+        return False
+    cut = history[:p]
+    serial = [result_by_words(thing, serial_by_words(cut, order)) for order in permutations(kept_by_words(cut))]
+    return result_by_words(thing, word_by_words(cut)) not in serial
+
+
+def in_states(history, *states):
+    transactions = sorted({event[1] for event in history})
+    return [t for t in transactions if state_by_words(history, t) in states]
+
+
+def is_allowed_by_words(table, history, event):
+    """Whether any value is possible after a right history, and the longer one is right at every cut."""
+    if not is_possible_by_words(table[0], history, event):
+        return False
+    return first_wrong_by_words(table, history + (event,)) is None
+
+
+def allowed_by_words(table, history):
+    """All allowed events that end or take back something."""
+    transactions = sorted({event[1] for event in history})
+    events = [(word, t) for word in ("drop", "keep") for t in transactions]
+    events += [("back", t, i) for t in transactions for i in steps_within(history)]
+    return tuple(sorted([event for event in events if is_allowed_by_words(table, history, event)]))
+
+
+def waits_by_words(table, history):
+    """The ascending tuple of the pairs (u, t), u waiting for t."""
+    found = set()
+    steps = [i for i in steps_within(history) if ("back", history[i][1], i) not in history]
+    for i, j in [(i, j) for i in steps for j in steps if i < j and conflict_by_words(table, history, i, j)]:
+        t, u = history[i][1], history[j][1]
+        if t != u and ("keep", t) not in history:
+            found.add((u, t))
+    return tuple(sorted(found))
+
+
+def doomed_by_words(table, history):
+    """Those from which one comes to a dropping transaction, or, by at least one step, to one from itself."""
+    waits = set(waits_by_words(table, history))
+    reached = set(waits)
+    for _ in range(len(history)):
+        reached |= {(u, t) for u, between in reached for other, t in waits if between == other}
+    bad = {t for t in in_states(history, "dropping")} | {u for u, t in reached if u == t}
+    active = in_states(history, "active")
+    return tuple([u for u in active if u in bad or any((u, t) in reached for t in bad)])
+
+
+def transaction_certifies_by_words(table, history, u, thing):
+    """Whether any value is a certificate for an active transaction."""
+    waits = waits_by_words(table, history)
+    if type(thing) is not tuple or len(thing) != 2 or not are_integers(thing[1]) or thing[1] == ():
+        return False
+    name, items = thing
+    if name == "doomed":
+        if items[0] != u or any(pair not in waits for pair in zip(items, items[1:])):
+            return False
+        return state_by_words(history, items[-1]) == "dropping" or items[-1] in items[:-1]
+    if name != "free" or items[-1] != u or len(set(items)) < len(items):
+        return False
+    if any(state_by_words(history, t) != "active" for t in items):
+        return False
+    return all(t in items[:at] for at, one in enumerate(items) for other, t in waits if other == one)
+
+
+def is_finish_by_words(table, history, thing):
+    """Whether any value is a finish in which exactly the active transactions that are not doomed are kept."""
+    if type(thing) is not tuple:
+        return False
+    after = history
+    for event in thing:
+        if not is_allowed_by_words(table, after, event) or event[0] == "do":
+            return False
+        after += (event,)
+    if in_states(after, "active", "dropping"):
+        return False
+    free = set(in_states(history, "active")) - set(doomed_by_words(table, history))
+    return {event[1] for event in thing if event[0] == "keep"} == free
+
+
+def drawn_table(chance):
+    kinds = ("a", "b", "c", "d")[:chance.randint(1, 4)]
+    return kinds, tuple([(one, other) for one in kinds for other in kinds if one <= other and chance.random() < 0.35])
+
+
+def drawn_history(chance, table, most, transactions, right):
+    """A history of drawn events; right at every cut if that is asked for, otherwise perhaps."""
+    history = ()
+    for _ in range(5 * most):
+        t = chance.randrange(transactions)
+        own = [i for i in steps_within(history) if history[i][1] == t] or [0]
+        do = ("do", t, chance.choice(table[0]))
+        event = chance.choice((do, do, ("keep", t), ("drop", t), ("back", t, own[-1]), ("back", t, chance.choice(own))))
+        longer = history + (event,)
+        if len(history) < most and is_possible_by_words(table[0], history, event):
+            if not right or first_wrong_by_words(table, longer) is None:
+                history = longer
+    return history
+
+
+def drawn_cases(many, sizes=(8, 12, 20, 40)):
+    """Pairs of tables and histories, every second history right at every cut."""
+    for seed in range(many):
+        chance = random.Random(seed)
+        table = drawn_table(chance)
+        yield table, drawn_history(chance, table, chance.choice(sizes), chance.randint(2, 8), seed % 2 == 0)
 
 
 def variants(value):
@@ -111,6 +541,16 @@ def raises(case, expected, value, name, *args):
             case.assertEqual((value, value.__class__), (found, found.__class__), (name, args))
         else:
             case.assertIs(value, found, (name, args))
+
+
+def rejects_others(case, name, *rest):
+    """Tests that a function raises BadTable and BadHistory for all values of other kinds."""
+    for thing in ODD + ((("b", "a"), ()),):
+        if not is_table_by_words(thing):
+            raises(case, "BadTable", thing, name, thing, (), *rest)
+        if not is_history_by_words(CELLS[0], thing):
+            raises(case, "BadHistory", thing, name, CELLS, thing, *rest)
+    raises(case, "BadHistory", ADDS, name, SMALL, ADDS, *rest)
 
 
 def run_examples(case, text):

@@ -1,12 +1,12 @@
-import random
 import unittest
 
 from eachcut.histories import is_event, is_history, kept_at, open_at, serial_word, state_of, word_at
-from helper import ADDS, CELLS, ODD, both_ways, is_table_by_words, raises, run_examples, variants
+from helper import (
+    ADDS, CELLS, MANY, ODD, SMALL, all_histories, both_ways, candidates, is_history_by_words, is_possible_by_words,
+    is_table_by_words, long_history, open_by_words, raises, run_examples, state_by_words, variants, word_by_words,
+)
 
 EMPTY = ((), ())
-SMALL = (("a", "b"), (("a", "b"),))
-MANY = tuple(sorted([one + other for one in "abcdef" for other in "uvwxyz"]))
 MIXED = (
     ("do", 0, "set"), ("do", 5, "get"), ("do", 0, "add"), ("keep", 5), ("drop", 0), ("do", 7, "add"), ("back", 0, 0),
     ("do", 7, "add"), ("back", 0, 2), ("keep", 7),
@@ -21,85 +21,6 @@ EXAMPLES = r"""
 >>> [word_at(CELLS, ADDS, 2), word_at(CELLS, ADDS, 4), word_at(CELLS, ADDS, 5), kept_at(CELLS, ADDS, 5), open_at(CELLS, ADDS, 3), serial_word(CELLS, ADDS, (2, 1))]
 [((0, 1), (1, 1), (1, -1), (0, -1)), ((0, 1), (1, 1), (0, -1), (1, -1)), ((0, 1), (1, 1), (0, -1)), (2,), (1, 0), ((1, 1), (0, 1))]
 """
-
-
-def is_possible_by_words(kinds, before, event):
-    """The definition once more, by looking through all preceding events."""
-    if type(event) is not tuple or len(event) < 2 or type(event[0]) is not str:
-        return False
-    word, t = event[:2]
-    if type(t) is not int or t < 0:
-        return False
-    ended = ("keep", t) in before or ("drop", t) in before
-    steps = [i for i, other in enumerate(before) if other[:2] == ("do", t)]
-    if len(event) == 2:
-        return word in ("keep", "drop") and steps != [] and not ended
-    if len(event) == 3 and word == "do":
-        return type(event[2]) is str and event[2] in kinds and not ended
-    if len(event) == 3 and word == "back" and type(event[2]) is int:
-        return ("drop", t) in before and event[2] in steps and event not in before
-    return False
-
-
-def is_history_by_words(kinds, thing):
-    if type(thing) is not tuple:
-        return False
-    return all(is_possible_by_words(kinds, thing[:at], event) for at, event in enumerate(thing))
-
-
-def state_by_words(history, t):
-    steps = [i for i, event in enumerate(history) if event[:2] == ("do", t)]
-    if not steps:
-        return "new"
-    if ("keep", t) in history:
-        return "kept"
-    if ("drop", t) not in history:
-        return "active"
-    return "gone" if all(("back", t, i) in history for i in steps) else "dropping"
-
-
-def open_by_words(cut):
-    steps = [(i, event[1]) for i, event in enumerate(cut) if event[0] == "do"]
-    return tuple([i for i, t in reversed(steps) if ("keep", t) not in cut and ("back", t, i) not in cut])
-
-
-def word_by_words(cut):
-    letters = [(i, 1) if event[0] == "do" else (event[2], -1) for i, event in enumerate(cut) if len(event) == 3]
-    return tuple(letters) + tuple([(i, -1) for i in open_by_words(cut)])
-
-
-def candidates(many):
-    """Events, possible or not, for two transactions and two kinds."""
-    found = [("do", t, kind) for t in (0, 1) for kind in ("a", "b")]
-    found += [(word, t) for word in ("keep", "drop") for t in (0, 1)]
-    return found + [("back", t, i) for t in (0, 1) for i in range(many)]
-
-
-def all_histories(most):
-    found = [()]
-    for history in found:
-        if len(history) < most:
-            for event in candidates(len(history)):
-                if is_possible_by_words(SMALL[0], history, event):
-                    found.append(history + (event,))
-    return found
-
-
-def long_history(seed, most=200, transactions=80, kinds=MANY):
-    """A history with many events, drawn from the possible ones."""
-    chance = random.Random(seed)
-    history = [("do", t, chance.choice(kinds)) for t in range(transactions)]
-    chance.shuffle(history)
-    while len(history) < most:
-        t = chance.randrange(transactions)
-        steps = [i for i, event in enumerate(history) if event[:2] == ("do", t)]
-        event = chance.choice((
-            ("do", t, chance.choice(kinds)), ("keep", t), ("drop", t), ("back", t, chance.choice(steps)),
-            ("back", t, chance.choice(steps)),
-        ))
-        if is_possible_by_words(kinds, tuple(history), event):
-            history.append(event)
-    return tuple(history)
 
 
 class TestHistories(unittest.TestCase):
