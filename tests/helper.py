@@ -70,6 +70,50 @@ INTERFACE = {
         "is_finish": ("table", "history", "thing"),
         "next_steps": ("table", "history"),
     },
+    "eachcut.others": {
+        "is_strict": ("table", "history"),
+        "is_plain": ("table", "history"),
+        "may_strictly": ("table", "history", "thing"),
+        "are_programs": ("table", "thing"),
+        "is_interleaving": ("table", "programs", "thing"),
+        "counts": ("table", "programs"),
+        "right_not_strict": ("table", "programs"),
+    },
+    "eachcut.sorts": {
+        "is_sort": ("thing",),
+        "table_of": ("sort",),
+        "judge_pair": ("sort", "one", "other"),
+        "pair_holds": ("sort", "one", "other", "thing"),
+        "outcome": ("sort", "history", "p", "start"),
+        "serial_outcome": ("sort", "history", "p", "order", "start"),
+        "witness": ("sort", "one", "other"),
+        "is_witness": ("sort", "one", "other", "thing"),
+    },
+    "eachcut.levels": {
+        "is_run": ("low", "high", "thing"),
+        "low_history": ("low", "high", "run"),
+        "high_history": ("low", "high", "run"),
+        "carriers": ("low", "high", "run"),
+        "judge_run": ("low", "high", "run"),
+        "run_holds": ("low", "high", "run", "thing"),
+        "is_two_level_store": ("low", "high", "run", "thing"),
+        "result_after": ("low", "high", "run", "p", "store"),
+    },
+    "eachcut.disks": {
+        "is_operation": ("thing",),
+        "is_content": ("thing",),
+        "is_row": ("thing",),
+        "row_text": ("row",),
+        "sectors_of": ("row",),
+        "read_row": ("text",),
+        "is_device": ("thing",),
+        "log_of": ("device",),
+        "length_of": ("device",),
+        "written": ("device", "row"),
+        "forced": ("device",),
+        "cut": ("device", "lost"),
+        "mended": ("device",),
+    },
 }
 
 NO_WORDS = (
@@ -535,6 +579,9 @@ def raises(case, expected, value, name, *args):
         before = repr(args)
         kind, attributes = error_of(call)
         case.assertEqual(before, repr(args))
+        if value is None and not attributes:
+            case.assertEqual(expected, kind, (name, args))
+            continue
         case.assertEqual((expected, 1), (kind, len(attributes)), (name, args))
         found = list(attributes.values())[0]
         if isinstance(value, (int, tuple, str)):
@@ -551,6 +598,23 @@ def rejects_others(case, name, *rest):
         if not is_history_by_words(CELLS[0], thing):
             raises(case, "BadHistory", thing, name, CELLS, thing, *rest)
     raises(case, "BadHistory", ADDS, name, SMALL, ADDS, *rest)
+
+
+def rejects(case, name, args, checks):
+    """Tests that for each argument other values than good ones raise its error, even if all later ones are wrong too.
+
+    checks has for each argument the name of its error and what tells whether any value is good; None where
+    every value is.
+    """
+    for at, check in enumerate(checks):
+        if check is None:
+            continue
+        error, is_good = check
+        later = [arg if other is None else CutError for arg, other in zip(args[at + 1:], checks[at + 1:])]
+        for thing in variants(args[at]):
+            if not is_good(thing):
+                raises(case, error, thing, name, *args[:at], thing, *args[at + 1:])
+                raises(case, error, thing, name, *args[:at], thing, *later)
 
 
 def run_examples(case, text):
