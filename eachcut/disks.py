@@ -7,6 +7,8 @@ MOST_KEY_LETTERS = 9
 MOST_ENTRIES = 3
 SECTOR_SIZE = 16
 PIECE_SIZE = 15
+# The names of operations, and how many worths each one has.
+OPERATIONS = (("read", 0), ("set", 2), ("add", 1))
 
 
 def is_key(thing):
@@ -16,14 +18,17 @@ def is_key(thing):
     return all([letter in LETTERS for letter in thing])
 
 
-def is_operation(thing):
-    """Whether any value is an operation."""
+def is_shaped(thing, shapes):
+    """Whether any value has a name, a key and worths, with one of these names and numbers of worths."""
     if not isinstance(thing, tuple) or len(thing) < 2 or not is_key(thing[1]):
         return False
     worths = thing[2:]
-    if not all([is_integer(worth) for worth in worths]):
-        return False
-    return (thing[0], len(worths)) in (("read", 0), ("set", 2), ("add", 1))
+    return (thing[0], len(worths)) in shapes and all([is_integer(worth) for worth in worths])
+
+
+def is_operation(thing):
+    """Whether any value is an operation."""
+    return is_shaped(thing, OPERATIONS)
 
 
 def is_entry(thing):
@@ -128,7 +133,7 @@ def content_in(text):
 
 
 def operation_in(items):
-    """What the items of an operation stand for."""
+    """What the items of an operation stand for; perhaps no operation."""
     return tuple(items[:2] + [integer_of(item) for item in items[2:]])
 
 

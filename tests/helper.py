@@ -1,12 +1,18 @@
 """What the tests share: the interface, odd values, wrong variants of values, and the examples' runner."""
 
+import copy
 import importlib
 import random
 import re
+from functools import cache
 from itertools import permutations
 
 from eachcut import errors
+from eachcut.benches import Bench
+from eachcut.disks import cut, log_of, mended, sectors_of
+from eachcut.engine import Engine
 from eachcut.errors import BadTable, CutError
+from eachcut.records import applied, new_pages, worths_on, writes_for
 
 CELLS = (("add", "get", "set"), (("add", "get"), ("add", "set"), ("get", "set"), ("set", "set")))
 ADDS = (("do", 1, "add"), ("do", 2, "add"), ("drop", 1), ("back", 1, 0), ("keep", 2))
@@ -114,6 +120,44 @@ INTERFACE = {
         "cut": ("device", "lost"),
         "mended": ("device",),
     },
+    "eachcut.records": {
+        "are_pages": ("thing",),
+        "are_chained": ("pages",),
+        "place_of": ("pages", "key"),
+        "worth_of": ("pages", "key"),
+        "worths_on": ("pages",),
+        "writes_for": ("pages", "key", "worth", "reserved"),
+        "applied": ("pages", "number", "row"),
+        "new_pages": (),
+    },
+    "eachcut.views": {
+        "upper_history": ("engine",),
+        "upper_table": ("engine",),
+        "lower_history": ("engine",),
+        "lower_table": ("engine",),
+        "two_level_run": ("engine",),
+        "kept_worths": ("engine",),
+    },
+    "eachcut.benches": {
+        "run_engine": ("run",),
+        "possible": ("run",),
+        "read_run": ("text",),
+        "worths_in_the_end": ("run",),
+        "does_run_show": ("run", "key", "worth"),
+        "is_tight": ("run", "key", "worth"),
+        "shortened": ("run", "key", "worth"),
+    },
+}
+CLASSES = {
+    Engine: {
+        "device": (), "disk": (), "log": (), "is_up": (), "pages": (), "worths": (), "opened": (), "active": (),
+        "copied": (), "start": ("t",), "drop": ("t",), "back": ("t",), "end": ("t", "end"), "ask": ("t", "operation"),
+        "write": ("op",), "finish": ("op",), "force": (), "flush": ("n",), "fall": ("lost",), "come_up": (),
+        "come_up_amid": ("k", "lost"),
+    },
+    Bench: {
+        "do": ("step",), "undo": (), "redo": (), "run": (), "engine": (), "text": (), "copied": (),
+    },
 }
 
 NO_WORDS = (
@@ -122,7 +166,7 @@ NO_WORDS = (
 )
 OTHERS = (
     True, False, None, -1, 3, 7, 10 ** 39, [], {}, (), [1], {"set": 1}, ("set",), ["set"], [["do", 1, "set"]],
-    ((), ()), "zz", "do", "keep", "back", BadTable(1), CutError(),
+    ((), ()), "zz", "do", "keep", "back", BadTable(1), CutError(), Engine(), Bench(),
 )
 ODD = NO_WORDS + OTHERS
 
@@ -527,6 +571,334 @@ def drawn_cases(many, sizes=(8, 12, 20, 40)):
         chance = random.Random(seed)
         table = drawn_table(chance)
         yield table, drawn_history(chance, table, chance.choice(sizes), chance.randint(2, 8), seed % 2 == 0)
+
+
+def is_natural_by_words(thing):
+    return type(thing) is int and thing >= 0
+
+
+def is_key_by_words(thing):
+    return type(thing) is str and re.fullmatch("[a-z]{1,9}", thing) is not None
+
+
+def is_request_by_words(thing):
+    """Whether any value can be asked of an engine."""
+    if type(thing) is not tuple or [type(part) for part in thing[:2]] != [str, str] or not is_key_by_words(thing[1]):
+        return False
+    return [type(part) for part in thing[2:]] == [int] * {"read": 0, "set": 1, "add": 1}.get(thing[0], 99)
+
+
+def exclude_by_words(one, other):
+    """Whether two operations have the same key and are neither both "read" nor both "add"."""
+    both = {one[0], other[0]}
+    return one[1] == other[1] and both not in ({"read"}, {"add"})
+
+
+@cache
+def pages_by_words(rows, start=new_pages()):
+    """The pages to which all rows of a log lead."""
+    if not rows:
+        return start
+    return applied(pages_by_words(rows[:-1], start), len(rows), rows[-1])
+
+
+@cache
+def rows_by_words(sectors):
+    return log_of((sectors, 0))
+
+
+@cache
+def undone_by_words(rows):
+    """The rows that a restart writes: for each unfinished op its "page" rows but the last ones, already taken back."""
+    finished = {row[2] for row in rows if row[0] in ("op", "comp")}
+    found = []
+    for op in {row[1] for row in rows if row[0] == "page"} - finished:
+        places = [at for at, row in enumerate(rows) if row[:2] == ("page", op)]
+        backs = len([row for row in rows if row[:2] == ("unpage", op)])
+        found += places[:len(places) - backs]
+    return tuple([("unpage",) + rows[at][1:4] for at in sorted(found, reverse=True)])
+
+
+@cache
+def open_transactions_by_words(rows):
+    """The triples (t, done, the last one of done) of the transactions that have not ended."""
+    ended = {row[1] for row in rows if row[0] == "end"}
+    undone = {row[3] for row in rows if row[0] == "comp"}
+    found = {}
+    for t in sorted({row[1] for row in rows if row[0] == "start"} - ended):
+        ops = [row for row in rows if row[0] == "op" and row[1] == t and row[2] not in undone]
+        found[t] = tuple([(row[2], row[3]) for row in ops])
+    return found
+
+
+class Wrong(Exception):
+    """The name of an error, and what it names."""
+
+
+class EngineByWords:
+    """An engine once more: what can be read off its log, is read off its log each time."""
+
+    def __init__(self):
+        self.device, self.disk, self.up = ((), 0), {}, True
+        self.dropping, self.active = set(), {}
+
+    def rows(self):
+        return rows_by_words(self.device[0])
+
+    def pages(self):
+        return pages_by_words(self.rows())
+
+    def worth(self, key):
+        return dict(worths_on(self.pages())).get(key, 0)
+
+    def opened(self):
+        found = open_transactions_by_words(self.rows())
+        return tuple([(t, "dropping" if t in self.dropping else "active", found[t]) for t in sorted(found)])
+
+    def actives(self):
+        return tuple([(op,) + tuple(self.active[op]) for op in sorted(self.active)])
+
+    def seen(self):
+        """Everything that an engine tells."""
+        told = (self.device, tuple(sorted(self.disk.items())), self.rows(), self.up)
+        if self.up:
+            told += (self.pages(), worths_on(self.pages()), self.opened(), self.actives())
+        return told
+
+    def append(self, row):
+        self.device = (self.device[0] + sectors_of(row), self.device[1])
+
+    def need(self, good, error, thing):
+        if not good:
+            raise Wrong(error, thing)
+
+    def need_idle(self, t, state):
+        """A transaction that has no active op, and, if that is asked for, a state."""
+        self.need(type(t) is int, "BadTransaction", t)
+        found = {other: (now, done) for other, now, done in self.opened()}
+        self.need(t in found and t not in [told[0] for told in self.active.values()], "BadTransaction", t)
+        self.need(state in (None, found[t][0]), "BadTransaction", t)
+        return found[t]
+
+    def need_op(self, op, left):
+        self.need(type(op) is int and op in self.active, "BadOp", op)
+        self.need(bool(self.active[op][4]) is left, "BadOp", op)
+        return self.active[op]
+
+    def take(self, step):
+        """The answer to a step, or the name of its error and what it names."""
+        word, *rest = step
+        before = copy.deepcopy(self)
+        try:
+            if word in ("up", "amid"):
+                self.need(not self.up, "Up", None)
+            else:
+                self.need(self.up, "Down", None)
+            return getattr(self, "take_" + word)(*rest)
+        except Wrong as wrong:
+            vars(self).update(vars(before))
+            return wrong.args
+
+    def take_start(self, t):
+        used = [row[1] for row in self.rows() if row[0] in ("start", "op", "comp", "end")]
+        self.need(is_natural_by_words(t) and t not in used, "BadTransaction", t)
+        self.append(("start", t))
+
+    def take_drop(self, t):
+        self.need_idle(t, "active")
+        self.dropping.add(t)
+
+    def take_end(self, t, end):
+        state, done = self.need_idle(t, None)
+        self.need(type(end) is str and end in ("kept", "dropped"), "BadEnd", end)
+        self.need((end == "kept") == (state == "active") and not (end == "dropped" and done), "BadEnd", end)
+        self.append(("end", t, end))
+        self.dropping.discard(t)
+        if end == "kept":
+            self.take_force()
+
+    def take_ask(self, t, operation):
+        self.need_idle(t, "active")
+        self.need(is_request_by_words(operation), "BadOperation", operation)
+        locks = [(u, held) for u, _, done in self.opened() for _, held in done]
+        locks += [(told[0], told[1]) for told in self.active.values() if told[1] is not None]
+        waits = {u for u, held in locks if u != t and exclude_by_words(operation, held)}
+        if waits:
+            return "waits", tuple(sorted(waits))
+        word, key, *worths = operation
+        now = self.worth(key)
+        if word == "read":
+            return self.begin(t, operation, None, key, now)
+        if word == "set":
+            return self.begin(t, ("set", key, worths[0], now), None, key, worths[0])
+        return self.begin(t, operation, None, key, now + worths[0])
+
+    def take_back(self, t):
+        _, done = self.need_idle(t, "dropping")
+        self.need(done, "BadTransaction", t)
+        op, operation = done[-1]
+        key, now = operation[1], self.worth(operation[1])
+        goal = {"read": now, "set": operation[-1], "add": now - operation[-1] if operation[0] == "add" else 0}
+        return self.begin(t, None, op, key, goal[operation[0]])
+
+    def begin(self, t, operation, back, key, goal):
+        reserved = {n for told in self.active.values() for n, _ in told[4]}
+        writes = writes_for(self.pages(), key, goal, tuple(sorted(reserved)))
+        numbers = tuple([n for n, _ in writes])
+        latched = [op for op, told in self.active.items() if set(told[3]) & set(numbers)]
+        if latched:
+            return "latched", tuple(sorted(latched))
+        used = [row[1] for row in self.rows() if row[0] in ("page", "unpage")]
+        used += [row[2] for row in self.rows() if row[0] in ("op", "comp")] + list(self.active)
+        op = max(used) + 1 if used else 0
+        self.active[op] = [t, operation, back, numbers, writes]
+        return "begun", op
+
+    def take_write(self, op):
+        told = self.need_op(op, True)
+        n, content = told[4][0]
+        before = self.pages()[n][1] if n < len(self.pages()) else None
+        told[4] = told[4][1:]
+        self.append(("page", op, n, before, content))
+
+    def take_finish(self, op):
+        t, operation, back, _, _ = self.need_op(op, False)
+        del self.active[op]
+        if operation is None:
+            self.append(("comp", t, op, back))
+            return ("done",)
+        self.append(("op", t, op, operation))
+        return ("worth", self.worth(operation[1])) if operation[0] == "read" else ("done",)
+
+    def take_force(self):
+        self.device = (self.device[0], len(self.device[0]))
+
+    def take_flush(self, n):
+        self.need(is_natural_by_words(n) and n < len(self.pages()), "BadNumber", n)
+        self.take_force()
+        self.disk[n] = self.pages()[n]
+
+    def go_down(self, device, lost):
+        good = are_integers(lost) and sorted(set(lost)) == list(lost)
+        self.need(good and all(at in range(device[1], len(device[0])) for at in lost), "BadLost", lost)
+        self.device = cut(device, lost)
+        self.up, self.dropping, self.active = False, set(), {}
+
+    def take_fall(self, lost):
+        self.go_down(self.device, lost)
+
+    def take_up(self):
+        undone = undone_by_words(self.rows())
+        self.device, self.up = mended(self.device), True
+        for row in undone:
+            self.append(row)
+        self.dropping = set(open_transactions_by_words(self.rows()))
+
+    def take_amid(self, k, lost):
+        undone = undone_by_words(self.rows())
+        self.need(is_natural_by_words(k) and k <= len(undone), "BadNumber", k)
+        sectors, safe = mended(self.device)
+        for row in undone[:k]:
+            sectors += sectors_of(row)
+        self.go_down((sectors, safe), lost)
+
+
+def kept_worths_by_words(rows, in_order_of_ends):
+    """The worths after the operations of the kept transactions, in the order of their "op" or of their "end" rows."""
+    kept = [row[1] for row in rows if row[0] == "end" and row[2] == "kept"]
+    ops = [(row[1], row[3]) for row in rows if row[0] == "op" and row[1] in kept]
+    if in_order_of_ends:
+        ops = [(t, operation) for end in kept for t, operation in ops if t == end]
+    worths = {}
+    for _, (word, key, *rest) in ops:
+        old = worths.get(key, 0)
+        worths[key] = {"read": old, "set": rest[:1] and rest[0], "add": old + sum(rest[:1])}[word]
+    return tuple(sorted([(key, worth) for key, worth in worths.items() if worth != 0]))
+
+
+def settle(engine):
+    """Takes back what is open with an engine that is up and has only dropping transactions without active ops."""
+    done = [(op, t) for t, _, pairs in engine.opened() for op, _ in pairs]
+    place = {row[2]: at for at, row in enumerate(engine.log()) if row[0] == "op"}
+    for _, t in sorted(done, key=lambda pair: -place[pair[0]]):
+        kind, op = engine.back(t)
+        assert kind == "begun"
+        while engine.active()[0][5]:
+            engine.write(op)
+        engine.finish(op)
+    for t, _, _ in engine.opened():
+        engine.end(t, "dropped")
+
+
+def seen_of(engine):
+    """Everything that an engine tells."""
+    told = (engine.device(), engine.disk(), engine.log(), engine.is_up())
+    return told + (engine.pages(), engine.worths(), engine.opened(), engine.active()) if engine.is_up() else told
+
+
+def step_of(engine, step):
+    """The answer of an engine's method to a step, or the name of its error and what it names."""
+    names = {"up": "come_up", "amid": "come_up_amid"}
+    try:
+        return getattr(engine, names.get(step[0], step[0]))(*step[1:])
+    except CutError as error:
+        return error.__class__.__name__, (list(vars(error).values()) + [None])[0]
+
+
+def drawn_operation(chance, keys):
+    key = chance.choice(keys)
+    worth = chance.choice((0, 1, 2, 5, -3, 7))
+    return chance.choice((("read", key), ("set", key, worth), ("add", key, worth), ("add", key, worth)))
+
+
+def drawn_lost(chance, device):
+    """Some sectors that are not safe: mostly none, all, or each one perhaps."""
+    loose = range(device[1], len(device[0]))
+    share = chance.choice((0, 0, 1, 0.5, 0.1))
+    return tuple([at for at in loose if chance.random() < share])
+
+
+def drawn_step(chance, model, keys, transactions, pace):
+    """A step that may be possible for an engine, whose model this is; at a low pace few ops finish."""
+    if not model.up:
+        undone = undone_by_words(model.rows())
+        k = chance.randint(0, len(undone))
+        sectors, safe = mended(model.device)
+        for row in undone[:k]:
+            sectors += sectors_of(row)
+        return chance.choice((("up",), ("amid", k, drawn_lost(chance, (sectors, safe)))))
+    t = chance.choice([t for t, _, _ in model.opened()] + [chance.randrange(transactions)])
+    op = chance.choice(list(model.active) or [0])
+    words = ["start"] * 3 + ["ask"] * 16 + ["write"] * 10 + ["finish"] * pace + ["drop", "back", "back", "end"] * 2
+    word = chance.choice(words + chance.choice((["force"], ["flush"], ["fall"], [], [], [])))
+    rest = {
+        "start": (t,), "ask": (t, drawn_operation(chance, keys)), "write": (op,), "finish": (op,), "drop": (t,),
+        "back": (t,), "end": (t, chance.choice(("kept", "kept", "dropped"))), "force": (), "fall": (),
+        "flush": (chance.randrange(len(model.pages())),),
+    }[word]
+    return ("fall", drawn_lost(chance, model.device)) if word == "fall" else (word,) + rest
+
+
+def drawn_life(seed, most=80, keys="abcdefghijkl", transactions=30):
+    """A run of drawn steps, at most five transactions open at once, in the limits of the engine."""
+    chance = random.Random(seed)
+    keys, pace = keys[:chance.choice((1, 3, 6, 12))], chance.choice((2, 5, 10))
+    model, run = EngineByWords(), []
+    for k in range(20 * most):
+        step = drawn_step(chance, model, keys, transactions, pace)
+        if step[0] == "start" and len(model.opened()) >= 5 or len(run) >= most:
+            continue
+        answer = model.take(step)
+        # Some of those that nothing comes of, but are possible, stay in the run.
+        good = ("begun", "done", "worth") + (("waits", "latched") if k % 5 == 0 else ())
+        if answer is None or answer[0] in good:
+            run.append(step)
+    return tuple(run)
+
+
+@cache
+def drawn_lives(many, most=80):
+    return [drawn_life(seed, most) for seed in range(many)]
 
 
 def variants(value):

@@ -513,7 +513,7 @@ class TestDevices(unittest.TestCase):
 class TestWrongValues(unittest.TestCase):
     def test_variants_of_devices(self):
         for device in (device_with(START, PAGE), (device_with(START, PAGE)[0], 1), ((), 0), (("", "x" * 16), 0),
-        (("",), 0)):
+                (("",), 0)):
             for thing in variants(device):
                 self.assertIs(is_device_by_words(thing), is_device(thing), thing)
                 if is_device_by_words(thing):
@@ -555,7 +555,7 @@ class TestWrongValues(unittest.TestCase):
         rejects(self, "forced", (device,), (clean,))
         rejects(self, "written", (device, PAGE), (clean, ("BadRow", is_row_by_words)))
         rejects(self, "cut", (device, (1, 2)),
-        (any_device, ("BadLost", lambda thing: are_lost_by_words(device, thing))))
+            (any_device, ("BadLost", lambda thing: are_lost_by_words(device, thing))))
         rejects(self, "row_text", (PAGE,), (("BadRow", is_row_by_words),))
         rejects(self, "sectors_of", (PAGE,), (("BadRow", is_row_by_words),))
         rejects(self, "read_row", ("page 0 0 - /a=1/-",), (("BadText", lambda thing: row_by_words(thing) is not None),))

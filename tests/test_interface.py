@@ -3,7 +3,7 @@ import inspect
 import unittest
 from pathlib import Path
 
-from helper import INTERFACE
+from helper import CLASSES, INTERFACE
 
 PACKAGE = Path(__file__).resolve().parent.parent / "eachcut"
 
@@ -15,6 +15,14 @@ class TestInterface(unittest.TestCase):
                 function = getattr(importlib.import_module(module), name)
                 self.assertEqual(parameters, tuple(inspect.signature(function).parameters), name)
                 self.assertEqual(module, function.__module__, name)
+
+    def test_classes(self):
+        for kind, methods in CLASSES.items():
+            self.assertEqual(1, len(inspect.signature(kind.__init__).parameters))
+            for name, parameters in methods.items():
+                function = vars(kind)[name]
+                self.assertEqual(("self",) + parameters, tuple(inspect.signature(function).parameters), name)
+        self.assertEqual(["eachcut.engine", "eachcut.benches"], [kind.__module__ for kind in CLASSES])
 
 
 class TestSizes(unittest.TestCase):

@@ -134,7 +134,7 @@ def drawn_event(chance, table, history, transactions):
     steps = [i for i in steps_within(history) if history[i][1] == t] or [0]
     do = ("do", t, chance.choice(table[0]))
     event = chance.choice((do, do, do, ("keep", t), ("drop", t), ("back", t, steps[-1]),
-    ("back", t, chance.choice(steps))))
+        ("back", t, chance.choice(steps))))
     return event if is_possible_by_words(table[0], history, event) else None
 
 
@@ -346,7 +346,7 @@ class TestStores(unittest.TestCase):
         self.assertEqual(turn[::1], both_ways("result_after", PAGES, CALLS, RUN, 0, (3, (still,) * 4))[1:] + (0,))
         self.assertEqual((2, 0, 1), both_ways("result_after", PAGES, CALLS, RUN, 7, (3, (turn, still, turn, still))))
         for store in ((3, (turn, still, turn, still)), (3, (turn, still, other, still)),
-        (3, (still, still, other, still))):
+                (3, (still, still, other, still))):
             expected = is_two_level_store_by_words(PAGES, CALLS, UNDONE, store)
             self.assertIs(expected, both_ways("is_two_level_store", PAGES, CALLS, UNDONE, store))
             self.assertIs(False, expected)
@@ -385,7 +385,7 @@ class TestStores(unittest.TestCase):
         self.assertIs(True, both_ways("is_two_level_store", PAGES, CALLS, run[:4], (3, (one, still))))
         self.assertEqual(still, both_ways("result_after", PAGES, CALLS, run[:4], 4, (3, (one, still))))
         self.assertEqual(one,
-        both_ways("result_after", PAGES, CALLS, run[:3] + (("high", ("keep", 5)),), 4, (3, (one, still))))
+            both_ways("result_after", PAGES, CALLS, run[:3] + (("high", ("keep", 5)),), 4, (3, (one, still))))
 
     def test_drawn_stores(self):
         """Stores with many different moves, for right runs and for others."""
@@ -393,7 +393,7 @@ class TestStores(unittest.TestCase):
         for seed in range(100):
             chance = random.Random(seed)
             low = (("u", "v"),
-            chance.choice(((("u", "u"), ("v", "v")), (("u", "u"),), (("u", "u"), ("u", "v"), ("v", "v")))))
+                chance.choice(((("u", "u"), ("v", "v")), (("u", "u"),), (("u", "u"), ("u", "v"), ("v", "v")))))
             high = (("x", "y"), chance.choice(((("x", "x"), ("y", "y")), (("x", "x"),), (("x", "y"), ("y", "y")), ())))
             right = seed % 4 != 0
             run = drawn_run(chance, low, high, 40, right)
@@ -465,7 +465,7 @@ class TestWrongValues(unittest.TestCase):
 
     def test_nothing_else(self):
         for thing in ODD + (CutError(), ("right",), [("right",)], (("low", "high"),), (("low", ()),), ((), ()),
-        ("low",)):
+                ("low",)):
             if thing != ():
                 self.assertIs(False, both_ways("is_run", PAGES, CALLS, thing), thing)
             if thing != ("right",):

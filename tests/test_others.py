@@ -346,7 +346,7 @@ class TestPrograms(unittest.TestCase):
 class TestWrongValues(unittest.TestCase):
     def test_no_event(self):
         for thing in ODD + ((("do", 2, "get"),), ["do", 2, "get"], ("do", 2), ("keep", 1, 0), ("back", 1, 0),
-        CutError()):
+                CutError()):
             self.assertIs(False, both_ways("may_strictly", CELLS, SETS[:1], thing), thing)
         for event in (("do", 2, "add"), ("keep", 1), ("drop", 1)):
             history = (("do", 1, "add"),)
