@@ -270,8 +270,10 @@ class TestRuns(unittest.TestCase):
         self.assertEqual((("a", 6),), both_ways("worths_in_the_end", run + (("end", 1, "kept"),)))
         self.assertEqual((("a", 8),), both_ways("worths_in_the_end", run + (("drop", 1), ("end", 2, "kept"))))
         # An op that is not finished, and one that is started late and finished first.
-        run = RUN + (("start", 2), ("ask", 2, ("set", "b", 1)), ("start", 3), ("ask", 3, ("read", "c")), ("write", 1),
-            ("finish", 2))
+        run = RUN + (
+            ("start", 2), ("ask", 2, ("set", "b", 1)), ("start", 3), ("ask", 3, ("read", "c")), ("write", 1),
+            ("finish", 2),
+        )
         self.assertEqual((("a", 5),), both_ways("worths_in_the_end", run))
         self.assertEqual((("a", 5),), both_ways("worths_in_the_end", run + (("finish", 1), ("drop", 2), ("back", 2))))
         # Nothing is lost in the fall at the end, but it may be before.
@@ -329,8 +331,9 @@ class TestShown(unittest.TestCase):
         self.check_shortened(run, "a", 0)
         self.check_shortened((("fall", ()), ("up",)), "a", 0)
         self.assertIs(False, both_ways("is_tight", (("fall", ()), ("up",)), "a", 0))
-        run = RUN[:1] + (("ask", 1, ("add", "b", 0)), ("finish", 0)) + (("ask", 1, ("add", "a", 5)), ("write", 1),
-            ("finish", 1), RUN[5])
+        run = RUN[:1] + (("ask", 1, ("add", "b", 0)), ("finish", 0)) + (
+            ("ask", 1, ("add", "a", 5)), ("write", 1), ("finish", 1), RUN[5],
+        )
         self.check_shortened(run, "a", 5)
 
     def test_drawn_runs(self):
@@ -375,8 +378,8 @@ class TestBenches(unittest.TestCase):
             for step in run:
                 self.assertEqual(step_of(engine, step), bench.do(step))
         bench = Bench()
-        told = [bench.do(step) for step in RUN[:2] + (("start", 2), ("ask", 2, ("set", "a", 1)),
-            ("ask", 2, ("set", "b", 1)))]
+        more = (("start", 2), ("ask", 2, ("set", "a", 1)), ("ask", 2, ("set", "b", 1)))
+        told = [bench.do(step) for step in RUN[:2] + more]
         self.assertEqual([None, ("begun", 0), None, ("waits", (1,)), ("latched", (0,))], told)
         self.assertEqual(5, len(bench.run()))
 
@@ -468,8 +471,10 @@ class TestBenches(unittest.TestCase):
                 self.check_bench(bench, RUN[:4], RUN[4:5])
         down = Bench()
         down.do(("fall", ()))
-        for thing in (("force",), ("start", 1), ("fall", ()), ("amid", 1, ()), ("amid", 0, (0,)), ("amid", True, ()),
-                ("amid", 0)):
+        for thing in (
+            ("force",), ("start", 1), ("fall", ()), ("amid", 1, ()), ("amid", 0, (0,)), ("amid", True, ()),
+            ("amid", 0),
+        ):
             self.assertEqual(("BadStep", {"thing": thing}), error_of(down.do, thing))
         self.check_bench(down, (("fall", ()),), ())
 
@@ -536,8 +541,10 @@ class TestTexts(unittest.TestCase):
         ):
             self.assertIsNone(run_by_words(text), text)
             raises(self, "BadText", text, "read_run", text)
-        for text in ("start 1\nstart 2\nfall 0,1", "fall\namid 0\nup", "start 0\nend 0 kept",
-        "start 1\nfall\nup\nend 1 dropped"):
+        for text in (
+            "start 1\nstart 2\nfall 0,1", "fall\namid 0\nup", "start 0\nend 0 kept",
+            "start 1\nfall\nup\nend 1 dropped",
+        ):
             self.assertEqual(run_by_words(text), both_ways("read_run", text))
 
     def test_large_numbers(self):
@@ -564,8 +571,9 @@ class TestWrongValues(unittest.TestCase):
 
     def test_no_step(self):
         for at, step in enumerate(LONG):
-            for thing in list(ODD) + [step[:-1], step + (0,), list(step), (step,), step[::-1], ("start", 1),
-                    ("write", 7)]:
+            for thing in list(ODD) + [
+                step[:-1], step + (0,), list(step), (step,), step[::-1], ("start", 1), ("write", 7),
+            ]:
                 run = LONG[:at] + (thing,) + LONG[at + 1:]
                 wrong = first_wrong_by_words(run)
                 if wrong is None:

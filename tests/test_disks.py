@@ -4,7 +4,7 @@ import unittest
 from itertools import combinations
 
 from eachcut.disks import (
-    cut, forced, is_content, is_device, is_operation, is_row, length_of, log_of, mended, read_row, row_text, sectors_of,
+    cut, forced, is_content, is_device, is_operation, is_row, log_of, mended, read_row, row_text, sectors_of,
     written,
 )
 from eachcut.errors import CutError
@@ -512,8 +512,9 @@ class TestDevices(unittest.TestCase):
 
 class TestWrongValues(unittest.TestCase):
     def test_variants_of_devices(self):
-        for device in (device_with(START, PAGE), (device_with(START, PAGE)[0], 1), ((), 0), (("", "x" * 16), 0),
-                (("",), 0)):
+        for device in (
+            device_with(START, PAGE), (device_with(START, PAGE)[0], 1), ((), 0), (("", "x" * 16), 0), (("",), 0),
+        ):
             for thing in variants(device):
                 self.assertIs(is_device_by_words(thing), is_device(thing), thing)
                 if is_device_by_words(thing):
@@ -554,8 +555,9 @@ class TestWrongValues(unittest.TestCase):
             rejects(self, name, (device,), (any_device,))
         rejects(self, "forced", (device,), (clean,))
         rejects(self, "written", (device, PAGE), (clean, ("BadRow", is_row_by_words)))
-        rejects(self, "cut", (device, (1, 2)),
-            (any_device, ("BadLost", lambda thing: are_lost_by_words(device, thing))))
+        rejects(
+            self, "cut", (device, (1, 2)), (any_device, ("BadLost", lambda thing: are_lost_by_words(device, thing))),
+        )
         rejects(self, "row_text", (PAGE,), (("BadRow", is_row_by_words),))
         rejects(self, "sectors_of", (PAGE,), (("BadRow", is_row_by_words),))
         rejects(self, "read_row", ("page 0 0 - /a=1/-",), (("BadText", lambda thing: row_by_words(thing) is not None),))

@@ -174,9 +174,8 @@ class TestFalls(Living):
         """No lost sectors, all, each one alone, all but one, and some drawn ones."""
         sectors, safe = device
         loose = tuple(range(safe, len(sectors)))
-        found = {(),
-            loose} | {(at,) for at in loose} | {tuple([other for other in loose if other != at]) for at in loose}
-        found |= {drawn_lost(chance, device) for _ in range(2)}
+        found = {(), loose} | {(at,) for at in loose} | {drawn_lost(chance, device) for _ in range(2)}
+        found |= {tuple([other for other in loose if other != at]) for at in loose}
         return sorted(found)
 
     def check_fall(self, engine, model, lost, chance):
@@ -324,8 +323,9 @@ class TestFalls(Living):
 class TestSteps(Living):
     def test_which_operations_wait(self):
         for one in (("read", "a"), ("set", "a", 1), ("add", "a", 1)):
-            for other in (("read", "a"), ("set", "a", 1), ("add", "a", 1), ("read", "b"), ("set", "b", 0),
-                    ("add", "b", 1)):
+            for other in (
+                ("read", "a"), ("set", "a", 1), ("add", "a", 1), ("read", "b"), ("set", "b", 0), ("add", "b", 1),
+            ):
                 writes = 0 if one[0] == "read" else 1
                 run = (("start", 1), ("start", 2)) + whole(1, 0, one, writes)
                 waits = one[1] == other[1] and (one[0], other[0]) not in (("read", "read"), ("add", "add"))
@@ -365,8 +365,10 @@ class TestSteps(Living):
             self.assertEqual(("latched", (3,)), engine.ask(3, ("set", "e", 7)), more)
             self.assertEqual(("latched", (3,)), engine.ask(3, ("set", "a", 7)))
             self.assertEqual(("begun", 4), engine.ask(3, ("read", "e")))
-            self.assertEqual(((3, 2, ("set", "b", 7, 0), None, (1, 0)), (4, 3, ("read", "e"), None, ())),
-                             tuple([told[:5] for told in engine.active()]))
+            self.assertEqual(
+                ((3, 2, ("set", "b", 7, 0), None, (1, 0)), (4, 3, ("read", "e"), None, ())),
+                tuple([told[:5] for told in engine.active()]),
+            )
             self.assertEqual(2 - len(more), len(engine.active()[0][5]))
         engine.finish(3)
         self.assertEqual(("begun", 5), engine.ask(4, ("set", "a", 7)))
@@ -401,8 +403,9 @@ class TestSteps(Living):
             run += whole(1, op, ("set", key, 1), 2 if key in ("d", "f") else 1)
         engine = engine_after(*run, ("end", 1, "kept"), ("start", 2), ("start", 3), ("start", 4))
         self.assertEqual([3, 3, 2], [len(content[1]) for _, content in engine.pages()])
-        self.assertEqual([("begun", 8), ("begun", 9)],
-            [engine.ask(2, ("set", "ab", 5)), engine.ask(3, ("set", "ca", 5))])
+        self.assertEqual(
+            [("begun", 8), ("begun", 9)], [engine.ask(2, ("set", "ab", 5)), engine.ask(3, ("set", "ca", 5))],
+        )
         self.assertEqual([(3, 0), (4, 1)], [told[4] for told in engine.active()])
         # The second one's new page is written first: the page before it does not exist yet, and is not used.
         engine.write(9)
@@ -490,8 +493,10 @@ class TestSteps(Living):
         for more in ((("ask", 1, ("read", "b")),), (("drop", 1), ("back", 1))):
             engine = engine_after(("start", 1), *whole(1, 0, ("read", "a"), 0), *more)
             self.assertEqual(1, len(engine.active()))
-            for step in (("drop", 1), ("back", 1), ("end", 1, "kept"), ("end", 1, "dropped"),
-                    ("ask", 1, ("read", "c")), ("start", 1)):
+            for step in (
+                ("drop", 1), ("back", 1), ("end", 1, "kept"), ("end", 1, "dropped"), ("ask", 1, ("read", "c")),
+                ("start", 1),
+            ):
                 self.assertEqual(("BadTransaction", 1), step_of(engine, step), step)
 
     def test_ends(self):
@@ -526,8 +531,9 @@ class TestSteps(Living):
         self.assertEqual(len(engine.device()[0]), engine.device()[1])
         for n in (1, -1, True, False, "0", None, (0,), 10 ** 39):
             self.assertEqual(("BadNumber", n), step_of(engine, ("flush", n)))
-        engine = engine_after(*FILLED, ("ask", 1, ("set", "b", 1)), ("write", 3), ("flush", 1), ("write", 3),
-            ("flush", 0))
+        engine = engine_after(
+            *FILLED, ("ask", 1, ("set", "b", 1)), ("write", 3), ("flush", 1), ("write", 3), ("flush", 0),
+        )
         self.assertEqual((0, 1), tuple([n for n, _ in engine.disk()]))
         self.assertEqual(engine.pages(), tuple([page for _, page in engine.disk()]))
         old = engine.disk()
@@ -543,12 +549,13 @@ class TestSteps(Living):
 
 class TestEquality(unittest.TestCase):
     def test_equal(self):
-        steps = FILLED + (("ask", 1, ("set", "b", 1)), ("write", 3), ("force",), ("write", 3), ("finish", 3),
-            ("drop", 1), ("back", 1))
+        steps = FILLED + (
+            ("ask", 1, ("set", "b", 1)), ("write", 3), ("force",), ("write", 3), ("finish", 3), ("drop", 1),
+            ("back", 1),
+        )
         engines = [engine_after(*steps[:many]) for many in range(len(steps) + 1)]
         engines += [engine_after(*steps, ("fall", ())), engine_after(*steps, ("fall", ()), ("up",))]
-        engines += [engine_after(*steps, ("flush", 0)), engine_after(*steps, ("flush", 1)),
-            engine_after(*steps, ("force",))]
+        engines += [engine_after(*steps, last) for last in (("flush", 0), ("flush", 1), ("force",))]
         for at, one in enumerate(engines):
             for other_at, other in enumerate(engines):
                 self.assertIs(at == other_at, one == other, (at, other_at))
@@ -646,10 +653,11 @@ class TestWrongValues(unittest.TestCase):
             for thing in variants(operation):
                 if not is_request_by_words(thing):
                     self.both(engine, ("ask", 3, thing), ("BadOperation", thing))
-        for thing in (("set", "a", 1, 0), ("set", "a"), ("add", "a"), ("add", "a", True), ("read", "a", 1),
-                ("put", "a", 1), "read",
-                      ("set", "abcdefghij", 1), ("read", ""), ("read", "A"), ["read", "a"], ("read", ("a",)),
-                      (True, "a", 1)):
+        for thing in (
+            ("set", "a", 1, 0), ("set", "a"), ("add", "a"), ("add", "a", True), ("read", "a", 1), ("put", "a", 1),
+            "read", ("set", "abcdefghij", 1), ("read", ""), ("read", "A"), ["read", "a"], ("read", ("a",)),
+            (True, "a", 1),
+        ):
             self.both(engine, ("ask", 3, thing), ("BadOperation", thing))
         for key in NO_WORDS:
             self.both(engine, ("ask", 3, ("read", key)), ("BadOperation", ("read", key)))
@@ -659,8 +667,9 @@ class TestWrongValues(unittest.TestCase):
         sectors, safe = engine.device()
         good = (safe, safe + 2)
         self.assertLess(safe + 2, len(sectors))
-        for thing in variants(good) + [(safe - 1,), (len(sectors),), (safe + 1, safe), (safe, safe), [safe], (0,),
-                ("0",), safe]:
+        for thing in variants(good) + [
+            (safe - 1,), (len(sectors),), (safe + 1, safe), (safe, safe), [safe], (0,), ("0",), safe,
+        ]:
             right = are_integers(thing) and sorted(set(thing)) == list(thing)
             if not right or not all(safe <= at < len(sectors) for at in thing):
                 self.both(engine, ("fall", thing), ("BadLost", thing))
@@ -673,13 +682,14 @@ class TestWrongValues(unittest.TestCase):
         device, disk, log = engine.device(), engine.disk(), engine.log()
         engine.fall(())
         down = (("pages",), ("worths",), ("opened",), ("active",), ("force",))
-        down += tuple([(name, thing) for name in ("start", "drop", "back", "write", "finish", "flush",
-        "fall") for thing in ((), 1, None)])
+        for name in ("start", "drop", "back", "write", "finish", "flush", "fall"):
+            down += tuple([(name, thing) for thing in ((), 1, None)])
         down += (("end", 1, "kept"), ("end", None, None), ("ask", 1, ("read", "a")), ("ask", None, None))
         for step in down:
             self.both(engine, step, ("Down", None))
-        self.assertEqual((device[0], disk, log, False),
-            (engine.device()[0], engine.disk(), engine.log(), engine.is_up()))
+        self.assertEqual(
+            (device[0], disk, log, False), (engine.device()[0], engine.disk(), engine.log(), engine.is_up()),
+        )
         self.assertEqual(engine, engine.copied())
 
     def test_up(self):
@@ -699,8 +709,9 @@ class TestWrongValues(unittest.TestCase):
                 self.both(engine, ("amid", thing, None), ("BadNumber", thing))
         for k in range(3):
             many = len(sectors) + sum([len(sectors_of(row)) for row in rows[:k]])
-            for thing in list(ODD) + [(many,), (safe - 1,), (0,), (many - 1, many), (True,), [many - 1],
-                    (many - 1, many - 1)]:
+            for thing in list(ODD) + [
+                (many,), (safe - 1,), (0,), (many - 1, many), (True,), [many - 1], (many - 1, many - 1),
+            ]:
                 if thing != ():
                     self.both(engine, ("amid", k, thing), ("BadLost", thing))
             for lost in ((), (many - 1,), tuple(range(safe, many))):

@@ -9,10 +9,10 @@ from eachcut.levels import (
 )
 from eachcut.tokens import result
 from helper import (
-    ODD, both_ways, certifies_by_words, conflict_by_words, drawn_table, first_wrong_by_words,
-    history_certifies_by_words, is_history_by_words, is_possible_by_words, is_store_by_words, is_table_by_words,
-    kept_by_words, open_by_words, raises, rejects, result_by_words, run_examples, serial_by_words, steps_within,
-    variants, word_by_words,
+    ODD, both_ways, conflict_by_words, drawn_table, first_wrong_by_words, history_certifies_by_words,
+    is_history_by_words, is_possible_by_words, is_same_by_words, is_store_by_words, is_table_by_words, kept_by_words,
+    open_by_words, raises, rejects, result_by_words, run_examples, serial_by_words, steps_within, variants,
+    word_by_words,
 )
 
 PAGES = (("read", "write"), (("read", "write"), ("write", "write")))
@@ -133,8 +133,9 @@ def drawn_event(chance, table, history, transactions):
     t = chance.randrange(transactions)
     steps = [i for i in steps_within(history) if history[i][1] == t] or [0]
     do = ("do", t, chance.choice(table[0]))
-    event = chance.choice((do, do, do, ("keep", t), ("drop", t), ("back", t, steps[-1]),
-        ("back", t, chance.choice(steps))))
+    event = chance.choice(
+        (do, do, do, ("keep", t), ("drop", t), ("back", t, steps[-1]), ("back", t, chance.choice(steps)))
+    )
     return event if is_possible_by_words(table[0], history, event) else None
 
 
@@ -297,14 +298,9 @@ class TestRuns(unittest.TestCase):
             run = drawn_run(chance, low, high, 25, True)
             lows = part_on("low", run)
             for p in range(len(lows) + 1):
-                # ("steps", order, ..) with this order holds if any rewritings lead there.
-                kept = kept_by_words(lows[:p])
-                store = drawn_store(chance, low, high, run)
-                self.assertEqual(
-                    result_by_words(store, serial_by_words(lows[:p], kept)),
-                    result_by_words(store, word_by_words(lows[:p])),
-                )
-                self.assertIs(False, certifies_by_words(low, lows, p, ("steps", kept + (99,), ())))
+                cut = lows[:p]
+                serial = serial_by_words(cut, kept_by_words(cut))
+                self.assertIs(True, is_same_by_words(low, cut, word_by_words(cut), serial), (low, cut))
 
 
 class TestStores(unittest.TestCase):
@@ -345,8 +341,9 @@ class TestStores(unittest.TestCase):
         still, turn, other = (0, 1, 2), (1, 2, 0), (1, 0, 2)
         self.assertEqual(turn[::1], both_ways("result_after", PAGES, CALLS, RUN, 0, (3, (still,) * 4))[1:] + (0,))
         self.assertEqual((2, 0, 1), both_ways("result_after", PAGES, CALLS, RUN, 7, (3, (turn, still, turn, still))))
-        for store in ((3, (turn, still, turn, still)), (3, (turn, still, other, still)),
-                (3, (still, still, other, still))):
+        for store in (
+            (3, (turn, still, turn, still)), (3, (turn, still, other, still)), (3, (still, still, other, still)),
+        ):
             expected = is_two_level_store_by_words(PAGES, CALLS, UNDONE, store)
             self.assertIs(expected, both_ways("is_two_level_store", PAGES, CALLS, UNDONE, store))
             self.assertIs(False, expected)
@@ -354,13 +351,9 @@ class TestStores(unittest.TestCase):
     def test_what_must_fit(self):
         """Effects of commuting high steps commute, although the low steps conflict."""
         one, other, still = (1, 0, 2), (0, 2, 1), (0, 1, 2)
-        for high, good in ((CALLS, False), (LOCKED, True), (("give", "take"), False)):
-            if high == LOCKED:
-                run = tuple([(level, event[:2] + ("a",) if level == "high" and len(event) == 3 else event)
-                             for level, event in RUN])
-            else:
-                high, run = CALLS, RUN
-            store = (3, (one, still, other, still))
+        store = (3, (one, still, other, still))
+        steps = [(level, event[:2] + ("a",) if level == "high" and event[0] == "do" else event) for level, event in RUN]
+        for high, run, good in ((CALLS, RUN, False), (LOCKED, tuple(steps), True)):
             self.assertIs(good, both_ways("is_two_level_store", PAGES, high, run, store))
             self.assertIs(good, is_two_level_store_by_words(PAGES, high, run, store))
         itself = (("give", "take"), (("give", "take"),))
@@ -384,16 +377,19 @@ class TestStores(unittest.TestCase):
         self.assertIs(True, both_ways("is_two_level_store", PAGES, CALLS, run, (3, (still, still))))
         self.assertIs(True, both_ways("is_two_level_store", PAGES, CALLS, run[:4], (3, (one, still))))
         self.assertEqual(still, both_ways("result_after", PAGES, CALLS, run[:4], 4, (3, (one, still))))
-        self.assertEqual(one,
-            both_ways("result_after", PAGES, CALLS, run[:3] + (("high", ("keep", 5)),), 4, (3, (one, still))))
+        self.assertEqual(
+            one, both_ways("result_after", PAGES, CALLS, run[:3] + (("high", ("keep", 5)),), 4, (3, (one, still))),
+        )
 
     def test_drawn_stores(self):
         """Stores with many different moves, for right runs and for others."""
         backs = 0
         for seed in range(100):
             chance = random.Random(seed)
-            low = (("u", "v"),
-                chance.choice(((("u", "u"), ("v", "v")), (("u", "u"),), (("u", "u"), ("u", "v"), ("v", "v")))))
+            low = (
+                ("u", "v"),
+                chance.choice(((("u", "u"), ("v", "v")), (("u", "u"),), (("u", "u"), ("u", "v"), ("v", "v")))),
+            )
             high = (("x", "y"), chance.choice(((("x", "x"), ("y", "y")), (("x", "x"),), (("x", "y"), ("y", "y")), ())))
             right = seed % 4 != 0
             run = drawn_run(chance, low, high, 40, right)
@@ -464,8 +460,9 @@ class TestWrongValues(unittest.TestCase):
         rejects(self, "result_after", (PAGES, CALLS, RUN, 7, SAME), (table, table, run, cut, store))
 
     def test_nothing_else(self):
-        for thing in ODD + (CutError(), ("right",), [("right",)], (("low", "high"),), (("low", ()),), ((), ()),
-                ("low",)):
+        for thing in ODD + (
+            CutError(), ("right",), [("right",)], (("low", "high"),), (("low", ()),), ((), ()), ("low",),
+        ):
             if thing != ():
                 self.assertIs(False, both_ways("is_run", PAGES, CALLS, thing), thing)
             if thing != ("right",):

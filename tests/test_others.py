@@ -320,6 +320,12 @@ class TestPrograms(unittest.TestCase):
                     self.assertIs(expected, is_interleaving(CELLS, programs, thing), (programs, thing))
             for history in permutations(histories[0]):
                 self.assertIs(history in histories, is_interleaving(CELLS, programs, history))
+        # Events of one more transaction, before, between and behind.
+        whole = interleavings_by_words((("set",), ("get",)))[3]
+        for at in range(len(whole) + 1):
+            for more in ((("do", 2, "set"),), (("do", 9, "add"), ("keep", 9))):
+                longer = whole[:at] + more + whole[at:]
+                self.assertIs(False, both_ways("is_interleaving", CELLS, (("set",), ("get",)), longer))
         # Another transaction that has the same program, and bools as its number.
         self.assertIs(False, both_ways("is_interleaving", CELLS, (("set",),), (("do", False, "set"), ("keep", False))))
         self.assertIs(False, both_ways("is_interleaving", CELLS, (("set",),), (("do", 0, "set"), ("keep", False))))
@@ -345,8 +351,9 @@ class TestPrograms(unittest.TestCase):
 
 class TestWrongValues(unittest.TestCase):
     def test_no_event(self):
-        for thing in ODD + ((("do", 2, "get"),), ["do", 2, "get"], ("do", 2), ("keep", 1, 0), ("back", 1, 0),
-                CutError()):
+        for thing in ODD + (
+            (("do", 2, "get"),), ["do", 2, "get"], ("do", 2), ("keep", 1, 0), ("back", 1, 0), CutError(),
+        ):
             self.assertIs(False, both_ways("may_strictly", CELLS, SETS[:1], thing), thing)
         for event in (("do", 2, "add"), ("keep", 1), ("drop", 1)):
             history = (("do", 1, "add"),)

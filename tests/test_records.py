@@ -167,8 +167,9 @@ class TestPages(unittest.TestCase):
             self.assertIs(True, self.check_pages(pages))
             found.append(len(chain_by_words(pages)))
             n = chance.randrange(len(pages))
-            changed = chance.choice((None, ("", (), 1), ("d", (), None),
-                ("b", (("b", 1), ("k", 2)), chance.randrange(5))))
+            changed = chance.choice(
+                (None, ("", (), 1), ("d", (), None), ("b", (("b", 1), ("k", 2)), chance.randrange(5)))
+            )
             self.check_pages(pages[:n] + ((5, changed),) + pages[n + 1:])
         self.assertLess(3, max(found))
 
@@ -238,8 +239,9 @@ class TestWrites(unittest.TestCase):
         ):
             self.assertEqual(expected, both_ways("writes_for", FULL, key, worth, ()))
             self.check_writes(FULL, key, worth, (3,))
-        self.assertEqual(((0, ("", (("zzzzzzzzz", 10 ** 39),), None)),),
-            both_ways("writes_for", NEW, "zzzzzzzzz", 10 ** 39, ()))
+        self.assertEqual(
+            ((0, ("", (("zzzzzzzzz", 10 ** 39),), None)),), both_ways("writes_for", NEW, "zzzzzzzzz", 10 ** 39, ()),
+        )
         self.assertEqual(((3, ("d", (("d", 2),), 1)),), both_ways("writes_for", CHAIN, "d", 2, ()))
         self.assertEqual(((0, ("", (), 3)),), both_ways("writes_for", CHAIN, "a", 0, ()))
         self.assertEqual((), both_ways("writes_for", CHAIN, "d", 0, ()))
@@ -343,8 +345,10 @@ class TestWrongValues(unittest.TestCase):
         rejects(self, "are_chained", (CHAIN,), (("BadPages", are_pages_by_words),))
         rejects(self, "writes_for", (FULL, "b", 5, (1, 3)), (chained, key, worth, ("BadNumber", self.are_numbers)))
         good = row[1]
-        rejects(self, "applied", (FULL, 2, ("end", 4, "kept")),
-            (("BadPages", are_pages_by_words), number, ("BadRow", good)))
+        rejects(
+            self, "applied", (FULL, 2, ("end", 4, "kept")),
+            (("BadPages", are_pages_by_words), number, ("BadRow", good)),
+        )
 
     def are_numbers(self, thing):
         if type(thing) is not tuple or not all(is_natural_by_words(part) for part in thing):
@@ -352,8 +356,9 @@ class TestWrongValues(unittest.TestCase):
         return sorted(set(thing)) == list(thing)
 
     def test_no_reserved_numbers(self):
-        for thing in ((1, 1), (2, 1), (-1,), (True,), (0, True), [1], ("1",), (1, None), ((1,),), {1: 2}, 1, None,
-                (1.0,)):
+        for thing in (
+            (1, 1), (2, 1), (-1,), (True,), (0, True), [1], ("1",), (1, None), ((1,),), {1: 2}, 1, None, (1.0,),
+        ):
             raises(self, "BadNumber", thing, "writes_for", FULL, "a", 1, thing)
         self.assertEqual((), writes_for(FULL, "a", 1, (0, 5, 10 ** 39)))
 

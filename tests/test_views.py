@@ -207,8 +207,9 @@ class TestViews(unittest.TestCase):
     def test_unfinished_ops(self):
         """Their writes are taken back, the last one first; a split has writes of two pages."""
         full = (("start", 1),) + tuple([step for op, key in enumerate("ace") for step in whole(1, op, ("set", key, 1))])
-        engine = run_of(*full, ("end", 1, "kept"), ("start", 2), ("ask", 2, ("set", "b", 1)), ("write", 3),
-            ("write", 3))
+        engine = run_of(
+            *full, ("end", 1, "kept"), ("start", 2), ("ask", 2, ("set", "b", 1)), ("write", 3), ("write", 3),
+        )
         before = both_ways("lower_history", engine)
         self.assertEqual((("do", 3, "wb"), ("do", 3, "wa")), before[-2:])
         self.assertEqual((("wa", "wb"), (("wa", "wa"), ("wb", "wb"))), both_ways("lower_table", engine))
@@ -235,8 +236,10 @@ class TestViews(unittest.TestCase):
         self.assertEqual((("do", 1, "ra"), ("drop", 1), ("back", 1, 0)), both_ways("upper_history", engine))
         step_of(engine, ("end", 1, "dropped"))
         self.assertEqual((("do", 1, "ra"), ("drop", 1), ("back", 1, 0)), both_ways("upper_history", engine))
-        self.assertEqual((("high", ("do", 1, "ra")), ("high", ("drop", 1)), ("high", ("back", 1, 0))),
-            both_ways("two_level_run", engine))
+        self.assertEqual(
+            (("high", ("do", 1, "ra")), ("high", ("drop", 1)), ("high", ("back", 1, 0))),
+            both_ways("two_level_run", engine),
+        )
 
     def test_kinds(self):
         """Kinds with long keys are words; keys that begin with the letter of another name are told apart."""
@@ -262,15 +265,18 @@ class TestViews(unittest.TestCase):
         step_of(engine, ("end", 3, "kept"))
         self.assertEqual((("a", 5), ("b", 4)), both_ways("kept_worths", engine))
         self.assertEqual(engine.worths(), both_ways("kept_worths", engine))
-        for step in (("start", 4),) + whole(4, 4, ("set", "b", 0)) + whole(4, 5,
-                ("add", "a", -5)) + (("end", 4, "kept"),):
+        for step in (("start", 4),) + whole(4, 4, ("set", "b", 0)) + whole(4, 5, ("add", "a", -5)) + (
+            ("end", 4, "kept"),
+        ):
             step_of(engine, step)
         self.assertEqual((), both_ways("kept_worths", engine))
         self.assertEqual(engine.worths(), both_ways("kept_worths", engine))
 
     def test_down(self):
-        engine = run_of(("start", 1), *whole(1, 0, ("add", "a", 5)), ("end", 1, "kept"), ("start", 2),
-            *whole(2, 1, ("add", "a", 1)))
+        engine = run_of(
+            ("start", 1), *whole(1, 0, ("add", "a", 5)), ("end", 1, "kept"), ("start", 2),
+            *whole(2, 1, ("add", "a", 1)),
+        )
         before = [both_ways(name, engine) for name in NAMES]
         engine.fall(())
         self.assertEqual(before, [both_ways(name, engine) for name in NAMES])
